@@ -1,0 +1,1 @@
+"""Squarewalk: walks of steps north, east, south and west."""
