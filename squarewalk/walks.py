@@ -18,14 +18,26 @@ def check_walk(walk):
 
 
 # Python counts True and False among the whole numbers, the document doesn't.
+def is_number(value):
+    return isinstance(value, int) and not isinstance(value, bool)
+
+
 def check_number(number):
-    if isinstance(number, bool) or not isinstance(number, int):
+    if not is_number(number):
         raise BadNumber("a whole number is asked for")
 
 
+def is_pair(value):
+    return isinstance(value, tuple) and len(value) == 2 and is_number(value[0]) and is_number(value[1])
+
+
 # What is no walk has no end either: end refuses it, so BadWalk goes first.
+def is_closed(walk):
+    return end(walk) == (0, 0)
+
+
 def check_closed(walk):
-    if end(walk) != (0, 0):
+    if not is_closed(walk):
         raise NotClosed("the walk doesn't end where it began")
 
 
@@ -46,6 +58,14 @@ def places(walk):
     for step in walk:
         place = stepped(place, step)
         told.append(place)
+    return told
+
+
+# A closed walk with steps comes back to its beginning at the last moment: that is no second coming.
+def counted_places(walk):
+    told = places(walk)
+    if len(walk) > 0 and told[-1] == told[0]:
+        told.pop()
     return told
 
 

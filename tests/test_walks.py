@@ -2,16 +2,9 @@ import copy
 import unittest
 
 from samples import (CLOSED, GREAT, LETTERS, LONG, MOVES, NO_NUMBERS, NO_WALKS, NUMBERS, OPEN, OPPOSITE, SHORT,
-                     places_step_by_step, shown)
+                     Asked, places_step_by_step, shown)
 from squarewalk.errors import BadNumber, BadWalk, NotClosed
 from squarewalk.walks import backwards, begun, end, mirrored, places, quartered, thinned
-
-
-class Asked(unittest.TestCase):
-    def refused(self, refusal, function, *handed_in):
-        with self.assertRaises(Exception) as caught:
-            function(*handed_in)
-        self.assertIs(type(caught.exception), refusal)
 
 
 class Places(Asked):
